@@ -1,0 +1,1 @@
+"""Joinedever: joined or not, at any moment."""
