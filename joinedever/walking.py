@@ -41,3 +41,14 @@ def parts_of(many, stand):
     parts = [part_of(many, stand, place) for place in range(many)]
     # Each part was walked from all of its places; the walk from its least one is told.
     return tuple([part for place, part in enumerate(parts) if part[0] == place])
+
+
+def has_two_sides(many, stand):
+    """Whether there are numbers 0 and 1 for the places such that no tie is between like ones."""
+    for part in parts_of(many, stand):
+        # In a part the number of one place tells all others: it changes with each step.
+        steps = steps_from(many, stand, part[0])
+        for name, one, other, weight in stand:
+            if steps[one] is not None and (steps[one] + steps[other]) % 2 == 0:
+                return False
+    return True

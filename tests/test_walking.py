@@ -2,7 +2,7 @@
 
 import unittest
 
-from joinedever.walking import are_joined, part_of, parts_of
+from joinedever.walking import are_joined, part_of, parts_of, steps_from
 from samples import is_number, reach_reckoned, some_histories, stand_reckoned, stays_as_it_was
 
 CHAIN = tuple(sorted((chr(97 + k), k, k + 1, 0) for k in range(23)))
@@ -78,6 +78,17 @@ class Parts(unittest.TestCase):
 
     def test_two_ties_between_the_same_places(self):
         self.assertEqual(parts_of(3, (("a", 2, 1, 0), ("b", 1, 2, 0))), ((0,), (1, 2)))
+
+
+class Steps(unittest.TestCase):
+    def test_the_fewest_ties_to_each_place(self):
+        ring = CHAIN[:5] + (("z", 5, 0, 0),)
+        self.assertEqual(steps_from(7, ring, 0), [0, 1, 2, 3, 2, 1, None])
+        self.assertEqual(steps_from(7, ring, 4), [2, 3, 2, 1, 0, 1, None])
+        self.assertEqual(steps_from(7, ring, 6), [None] * 6 + [0])
+        # Two ways to 3, the one told later is the shorter one.
+        stand = (("a", 0, 1, 0), ("b", 1, 2, 0), ("c", 2, 3, 0), ("d", 0, 3, 0), ("e", 3, 4, 0))
+        self.assertEqual(steps_from(5, stand, 0), [0, 1, 2, 1, 2])
 
 
 class Many(unittest.TestCase):
