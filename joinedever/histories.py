@@ -26,14 +26,19 @@ def is_place(many, thing):
     return is_within(thing, 0, many - 1)
 
 
+def is_tie(many, four):
+    """Whether a tuple of four things is a tie between unlike ones of so many places."""
+    name, one, other, weight = four
+    if not is_name(name) or not is_amount(weight):
+        return False
+    return is_place(many, one) and is_place(many, other) and one != other
+
+
 def is_coming(many, thing):
     """Whether a thing has the form of a deed by which a tie comes."""
     if not isinstance(thing, tuple) or len(thing) != 6:
         return False
-    word, moment, name, one, other, weight = thing
-    if word != "come" or not is_amount(moment) or not is_name(name) or not is_amount(weight):
-        return False
-    return is_place(many, one) and is_place(many, other) and one != other
+    return thing[0] == "come" and is_amount(thing[1]) and is_tie(many, thing[2:])
 
 
 def is_going(thing):
@@ -44,12 +49,12 @@ def is_going(thing):
     return word == "go" and is_amount(moment) and is_name(name)
 
 
-def has_shape(thing):
-    """Whether a thing is a pair of a number of places and a tuple of not too many things."""
+def has_shape(thing, most):
+    """Whether a thing is a pair of a number of places and a tuple of at most so many things."""
     if not isinstance(thing, tuple) or len(thing) != 2:
         return False
-    many, deeds = thing
-    return is_within(many, 1, MOST_PLACES) and isinstance(deeds, tuple) and len(deeds) <= MOST_DEEDS
+    many, rows = thing
+    return is_within(many, 1, MOST_PLACES) and isinstance(rows, tuple) and len(rows) <= most
 
 
 def deed_fault(many, ahead, there, thing):
@@ -71,7 +76,7 @@ def deed_fault(many, ahead, there, thing):
 
 def right_history(thing):
     """True of a history; any other thing is refused with NoHistory."""
-    if not has_shape(thing):
+    if not has_shape(thing, MOST_DEEDS):
         raise NoHistory(0, "shape")
     many, deeds = thing
     ahead = 0

@@ -43,6 +43,12 @@ def parts_of(many, stand):
     return tuple([part for place, part in enumerate(parts) if part[0] == place])
 
 
+def has_ring(many, stand):
+    """Whether some ties lead round from a place back to it; two of like places do."""
+    # A tie that makes no ring makes one part of two, so there is one part less for each of them.
+    return len(stand) > many - len(parts_of(many, stand))
+
+
 def has_two_sides(many, stand):
     """Whether there are numbers 0 and 1 for the places such that no tie is between like ones."""
     for part in parts_of(many, stand):

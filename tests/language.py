@@ -163,10 +163,14 @@ def names_in(tree):
             yield node.attr, node.lineno
 
 
+def methods_in(tree):
+    return {part.name for node in tree.body if isinstance(node, ast.ClassDef) for part in node.body
+            if isinstance(part, ast.FunctionDef)}
+
+
 def name_faults(tree):
     """L8, L12, L15, L17: names."""
-    methods = {part.name for node in tree.body if isinstance(node, ast.ClassDef) for part in node.body
-               if isinstance(part, ast.FunctionDef)}
+    methods = methods_in(tree)
     for name, at in names_in(tree):
         if not PLAIN_NAME.match(name) and name not in DOUBLE:
             yield "L12", at
@@ -193,10 +197,8 @@ def module_values(tree):
             if isinstance(node, ast.Assign) and isinstance(node.value, (ast.List, ast.Dict))}
 
 
-def call_faults(tree):
-    """L15, L22, L23, L25: calls."""
-    own = {part.name for node in tree.body if isinstance(node, ast.ClassDef) for part in node.body
-           if isinstance(part, ast.FunctionDef)}
+def call_faults(tree, own):
+    """L15, L22, L23, L25: calls; own are the names of the package's methods."""
     guarded = module_values(tree)
     good = set()
     for node in ast.walk(tree):
@@ -237,13 +239,17 @@ def loop_faults(tree):
                     yield "L23", node.lineno
 
 
-def faults_of(source):
-    """The faults of one file: pairs of a rule and a line, 0 where no line is to be told."""
+def faults_of(source, own=()):
+    """The faults of one file: pairs of a rule and a line, 0 where no line is to be told.
+
+    own are the names of methods that other files of the package have.
+    """
     tree = ast.parse(source)
-    readers = (module_faults, function_faults, statement_faults, name_faults, call_faults, loop_faults)
+    readers = (module_faults, function_faults, statement_faults, name_faults, loop_faults)
     found = set(text_faults(source))
     for reader in readers:
         found.update(reader(tree))
+    found.update(call_faults(tree, methods_in(tree) | set(own)))
     return sorted(found)
 
 
@@ -278,9 +284,8 @@ def class_faults(trees):
     """L18: no name is a method here and an attribute there; what is read is set by a class."""
     methods, fields, read = set(), set(), set()
     for tree in trees.values():
+        methods |= methods_in(tree)
         for node in ast.walk(tree):
-            if isinstance(node, ast.ClassDef):
-                methods |= {part.name for part in node.body if isinstance(part, ast.FunctionDef)}
             if isinstance(node, ast.Attribute):
                 (read if isinstance(node.ctx, ast.Load) else fields).add(node.attr)
     if methods & fields:
@@ -291,8 +296,9 @@ def class_faults(trees):
 
 def package_faults(sources):
     """The faults of the package, of {file name without its ending: source}."""
-    found = [(rule, name, at) for name, source in sources.items() for rule, at in faults_of(source)]
     trees = {name: ast.parse(source) for name, source in sources.items()}
+    own = {method for tree in trees.values() for method in methods_in(tree)}
+    found = [(rule, name, at) for name, source in sources.items() for rule, at in faults_of(source, own)]
     for reader in (import_faults, class_faults):
         found += [(rule, where, 0) for rule, where in reader(trees)]
     for name in set(sources) - {"__init__"}:
