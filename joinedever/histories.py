@@ -26,6 +26,13 @@ def is_place(many, thing):
     return is_within(thing, 0, many - 1)
 
 
+def is_places(many, thing):
+    """Whether a thing is a rising tuple of some of so many places."""
+    if not isinstance(thing, tuple) or not all([is_place(many, place) for place in thing]):
+        return False
+    return all([ahead < place for ahead, place in zip(thing, thing[1:])])
+
+
 def is_tie(many, four):
     """Whether a tuple of four things is a tie between unlike ones of so many places."""
     name, one, other, weight = four

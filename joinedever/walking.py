@@ -2,33 +2,33 @@
 
 
 def beside_of(many, stand):
-    """For each place the places that a tie leads to from it."""
+    """For each place pairs of the name of a tie of its own and the place that it leads to."""
     beside = [[] for place in range(many)]
     for name, one, other, weight in stand:
-        beside[one].append(other)
-        beside[other].append(one)
+        beside[one].append((name, other))
+        beside[other].append((name, one))
     return beside
 
 
-def steps_from(many, stand, place):
-    """For each place how many ties lead to it from the one told, at the fewest, or None."""
+def ways_from(many, stand, place):
+    """For each place the names of the fewest ties that lead to it from the one told, or None."""
     beside = beside_of(many, stand)
-    steps = [None] * many
-    steps[place] = 0
+    ways = [None] * many
+    ways[place] = ()
     waiting = [place]
     while waiting:
         here = waiting.pop(0)
-        for there in beside[here]:
-            if steps[there] is None:
-                steps[there] = steps[here] + 1
+        for name, there in beside[here]:
+            if ways[there] is None:
+                ways[there] = ways[here] + (name,)
                 waiting.append(there)
-    return steps
+    return ways
 
 
 def part_of(many, stand, place):
     """All places that are joined with a place, rising."""
-    steps = steps_from(many, stand, place)
-    return tuple([there for there in range(many) if steps[there] is not None])
+    ways = ways_from(many, stand, place)
+    return tuple([there for there in range(many) if ways[there] is not None])
 
 
 def are_joined(many, stand, one, other):
@@ -43,6 +43,26 @@ def parts_of(many, stand):
     return tuple([part for place, part in enumerate(parts) if part[0] == place])
 
 
+def place_over(stand, place, thing):
+    """Where the tie that a thing names leads from a place; None where it names none that leads from there."""
+    for name, one, other, weight in stand:
+        if name == thing and place in (one, other):
+            return one + other - place
+    return None
+
+
+def leads(stand, one, other, thing):
+    """Whether a thing is a tuple of names of ties that lead, one behind another, from one place to another."""
+    if not isinstance(thing, tuple):
+        return False
+    here = one
+    for name in thing:
+        here = place_over(stand, here, name)
+        if here is None:
+            return False
+    return here == other
+
+
 def has_ring(many, stand):
     """Whether some ties lead round from a place back to it; two of like places do."""
     # A tie that makes no ring makes one part of two, so there is one part less for each of them.
@@ -52,9 +72,9 @@ def has_ring(many, stand):
 def has_two_sides(many, stand):
     """Whether there are numbers 0 and 1 for the places such that no tie is between like ones."""
     for part in parts_of(many, stand):
-        # In a part the number of one place tells all others: it changes with each step.
-        steps = steps_from(many, stand, part[0])
+        # In a part the number of one place tells all others: it changes with each tie on the way there.
+        ways = ways_from(many, stand, part[0])
         for name, one, other, weight in stand:
-            if steps[one] is not None and (steps[one] + steps[other]) % 2 == 0:
+            if one in part and (len(ways[one]) + len(ways[other])) % 2 == 0:
                 return False
     return True

@@ -2,7 +2,7 @@
 
 import unittest
 
-from joinedever.walking import are_joined, part_of, parts_of, steps_from
+from joinedever.walking import are_joined, has_ring, leads, part_of, parts_of, ways_from
 from samples import is_number, reach_reckoned, some_histories, stand_reckoned, stays_as_it_was
 
 CHAIN = tuple(sorted((chr(97 + k), k, k + 1, 0) for k in range(23)))
@@ -80,15 +80,51 @@ class Parts(unittest.TestCase):
         self.assertEqual(parts_of(3, (("a", 2, 1, 0), ("b", 1, 2, 0))), ((0,), (1, 2)))
 
 
-class Steps(unittest.TestCase):
+class Ways(unittest.TestCase):
     def test_the_fewest_ties_to_each_place(self):
         ring = CHAIN[:5] + (("z", 5, 0, 0),)
-        self.assertEqual(steps_from(7, ring, 0), [0, 1, 2, 3, 2, 1, None])
-        self.assertEqual(steps_from(7, ring, 4), [2, 3, 2, 1, 0, 1, None])
-        self.assertEqual(steps_from(7, ring, 6), [None] * 6 + [0])
+        self.assertEqual(ways_from(7, ring, 1), [("a",), (), ("b",), ("b", "c"), ways_from(7, ring, 1)[4], ("a", "z"), None])
+        self.assertIn(ways_from(7, ring, 1)[4], (("b", "c", "d"), ("a", "z", "e")))
+        self.assertEqual(ways_from(7, ring, 4), [("e", "z"), ways_from(7, ring, 4)[1], ("d", "c"), ("d",), (), ("e",), None])
+        self.assertEqual(ways_from(7, ring, 6), [None] * 6 + [()])
         # Two ways to 3, the one told later is the shorter one.
         stand = (("a", 0, 1, 0), ("b", 1, 2, 0), ("c", 2, 3, 0), ("d", 0, 3, 0), ("e", 3, 4, 0))
-        self.assertEqual(steps_from(5, stand, 0), [0, 1, 2, 1, 2])
+        self.assertEqual([len(way) for way in ways_from(5, stand, 0)], [0, 1, 2, 1, 2])
+
+    def test_they_lead_there(self):
+        for history in some_histories():
+            many = history[0]
+            stand = stand_reckoned(history, len(history[1]) // 2)
+            for one in range(many):
+                for other, way in enumerate(stays_as_it_was(self, ways_from, many, stand, one)):
+                    self.assertEqual(way is not None, are_joined(many, stand, one, other))
+                    if way is not None:
+                        self.assertIs(leads(stand, one, other, way), True)
+                        self.assertEqual(len(set(way)), len(way))
+
+    def test_leads(self):
+        stand = (("a", 0, 1, 0), ("b", 1, 2, 0), ("c", 0, 1, 0), ("d", 3, 4, 0))
+        for one, other, way in (
+            (0, 0, ()), (3, 3, ()), (0, 1, ("a",)), (1, 0, ("a",)), (0, 2, ("c", "b")), (2, 0, ("b", "a")),
+            (0, 0, ("a", "c")), (0, 1, ("a",) * 999), (0, 0, ("a",) * 1000), (2, 1, ("b", "b", "b")),
+        ):
+            self.assertIs(leads(stand, one, other, way), True)
+        for one, other, way in (
+            (0, 1, ()), (0, 2, ("a",)), (0, 2, ("b",)), (0, 2, ("b", "a")), (0, 0, ("a",) * 999), (0, 1, ["a"]),
+            (0, 1, ("z",)), (0, 1, (1,)), (0, 1, (["a"],)), (0, 1, ({},)), (0, 1, None), (0, 1, "a"), (0, 0, []), (0, 0, ""),
+            (0, 4, ("a", "d")), (3, 0, ("b",)), (0, 3, ("b",)), (2, 5, ("d",)), (0, 1, (("a",),)), (0, 1, ("a", None)), (0, 1, (True,)), (0, 0, 0), (0, 0, {}),
+        ):
+            self.assertIs(stays_as_it_was(self, leads, stand, one, other, way), False)
+
+    def test_has_ring(self):
+        self.assertIs(has_ring(24, ()), False)
+        self.assertIs(has_ring(24, CHAIN), False)
+        self.assertIs(has_ring(24, TURNED), False)
+        self.assertIs(has_ring(6, TWO_PARTS), False)
+        self.assertIs(has_ring(24, CHAIN + (("z", 23, 0, 0),)), True)
+        self.assertIs(has_ring(6, TWO_PARTS + (("d", 1, 4, 0),)), True)
+        self.assertIs(has_ring(6, TWO_PARTS + (("d", 1, 2, 0), ("e", 5, 0, 0))), True)
+        self.assertIs(has_ring(6, TWO_PARTS + (("d", 1, 2, 0), ("e", 5, 2, 0))), False)
 
 
 class Many(unittest.TestCase):
