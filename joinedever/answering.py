@@ -1,7 +1,8 @@
 """Answers to asks by a plain walk of each stand."""
 
+from joinedever.sides import have_two_sides
 from joinedever.stands import stand_behind
-from joinedever.walking import are_joined, has_two_sides, part_of, parts_of
+from joinedever.walking import are_joined, part_of, parts_of
 
 
 def answer_of(many, stand, ask):
@@ -13,7 +14,7 @@ def answer_of(many, stand, ask):
         return len(parts_of(many, stand))
     if word == "size":
         return len(part_of(many, stand, ask[2]))
-    return has_two_sides(many, stand)
+    return have_two_sides(many, stand)
 
 
 def answers_plainly(history, asks):

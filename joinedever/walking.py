@@ -63,18 +63,12 @@ def leads(stand, one, other, thing):
     return here == other
 
 
+def ties_out(stand, places):
+    """The ties that lead out of some places: just one of their two is among them."""
+    return [tie for tie in stand if (tie[1] in places) != (tie[2] in places)]
+
+
 def has_ring(many, stand):
     """Whether some ties lead round from a place back to it; two of like places do."""
     # A tie that makes no ring makes one part of two, so there is one part less for each of them.
     return len(stand) > many - len(parts_of(many, stand))
-
-
-def has_two_sides(many, stand):
-    """Whether there are numbers 0 and 1 for the places such that no tie is between like ones."""
-    for part in parts_of(many, stand):
-        # In a part the number of one place tells all others: it changes with each tie on the way there.
-        ways = ways_from(many, stand, part[0])
-        for name, one, other, weight in stand:
-            if one in part and (len(ways[one]) + len(ways[other])) % 2 == 0:
-                return False
-    return True

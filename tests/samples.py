@@ -67,6 +67,12 @@ def some_histories(how_many=40):
     return rows
 
 
+def moments_of(history):
+    """The moments of all deeds and those beside them, 0 and the last one."""
+    beside = {deed[1] + step for deed in history[1] for step in (-1, 0, 1)}
+    return sorted(moment for moment in beside | {0, MOST} if 0 <= moment <= MOST)
+
+
 def stand_reckoned(history, n):
     """The stand by the last deed of each name, not by doing the deeds in turn."""
     done = history[1][:n]
