@@ -16,9 +16,10 @@ def ways_from_least(many, stand):
 
 
 def ring_over(ways, tie):
-    """The ring of a tie and the ways to its two places, without the beginning that these have in common."""
+    """The ring of a tie of like sides and the ways to its two places, without what these have in common."""
     there, back = ways[tie[1]], ways[tie[2]]
-    while there and back and there[0] == back[0]:
+    # Neighbours of like sides are just as far from the least place, so the ways to them part somewhere.
+    while there[0] == back[0]:
         there, back = there[1:], back[1:]
     return there + (tie[0],) + back[::-1]
 

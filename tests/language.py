@@ -36,6 +36,11 @@ WORDS = re.compile(
     r"\b(type|typing|typing_extensions|enum|Enum|IntEnum|StrEnum|Flag|IntFlag|Generic|Protocol|ABC|ABCMeta"
     r"|namedtuple|NamedTuple|TypedDict|TYPE_CHECKING|abstractmethod)\b|dataclass|overload|contextmanager"
 )
+# L22: the keywords that builtins are called with.
+KEYWORDS = {
+    "sorted": {"key", "reverse"}, "min": {"key", "default"}, "max": {"key", "default"}, "sum": {"start"},
+    "enumerate": {"start"}, "zip": {"strict"},
+}
 PLAIN_NAME = re.compile(r"[A-Za-z][A-Za-z0-9_]*\Z")
 STATEMENTS = (
     ast.Assign, ast.AugAssign, ast.If, ast.While, ast.For, ast.Return, ast.Break, ast.Continue, ast.Pass, ast.Raise,
@@ -87,6 +92,8 @@ def module_faults(tree):
                 bound.append(node.targets[0].id)
             if any(isinstance(part, (ast.Call, ast.Set, ast.ListComp, ast.DictComp)) for part in ast.walk(node.value)):
                 yield "L3", node.lineno
+            if any(isinstance(part, (ast.List, ast.Dict)) and part != node.value for part in ast.walk(node.value)):
+                yield "L15", node.lineno
         elif not (is_docstring(node) and node == tree.body[0]):
             yield "L3", node.lineno
     if len(bound) != len(set(bound)):
@@ -120,7 +127,7 @@ def function_faults(tree):
 
 
 def statement_faults(tree):
-    """L6, L7, L19, L20, L27: statements and expressions."""
+    """L6, L7, L20, L24, L27: statements and expressions."""
     for node in ast.walk(tree):
         at = getattr(node, "lineno", 0)
         if isinstance(node, ast.stmt) and not isinstance(node, STATEMENTS):
@@ -138,16 +145,33 @@ def statement_faults(tree):
         if isinstance(node, ast.BinOp) and isinstance(node.op, ast.Pow):
             if not isinstance(node.right, ast.Constant) or not 0 <= node.right.value <= 64:
                 yield "L27", at
-        if isinstance(node, ast.ExceptHandler) and (node.type is None or ast.unparse(node.type) in ("Exception", "TypeError")):
-            yield "L19", at
-        if isinstance(node, ast.Raise) and node.exc is not None:
-            if not isinstance(node.exc, ast.Call) or not isinstance(node.exc.func, ast.Name):
-                yield "L19", at
+        if isinstance(node, (ast.Set, ast.SetComp)):
+            yield "L24", at
         if isinstance(node, ast.Compare):
             for op, right in zip(node.ops, node.comparators):
                 plain = isinstance(right, ast.Constant) and right.value in (None, True, False)
                 if isinstance(op, (ast.Is, ast.IsNot)) and not plain:
                     yield "L20", at
+
+
+def error_faults(tree):
+    """L19: what is caught and raised; of a caught error its own fields alone are read."""
+    for node in ast.walk(tree):
+        if isinstance(node, ast.Raise) and node.exc is not None:
+            if not isinstance(node.exc, ast.Call) or not isinstance(node.exc.func, ast.Name):
+                yield "L19", node.lineno
+            if node.cause is not None and ast.unparse(node.cause) != "None":
+                yield "L19", node.lineno
+        if not isinstance(node, ast.ExceptHandler):
+            continue
+        # The package catches none of Python's errors but those that may be caught freely.
+        if node.type is None or ast.unparse(node.type) in ERRORS - {"KeyError", "ZeroDivisionError", "StopIteration"}:
+            yield "L19", node.lineno
+        parts = [part for row in node.body for part in ast.walk(row)]
+        read = {id(part.value) for part in parts if isinstance(part, ast.Attribute) and part.attr != "args"}
+        for part in parts:
+            if node.name and isinstance(part, ast.Name) and part.id == node.name and id(part) not in read:
+                yield "L19", part.lineno
 
 
 def names_in(tree):
@@ -198,7 +222,7 @@ def module_values(tree):
 
 
 def call_faults(tree, own):
-    """L15, L22, L23, L25: calls; own are the names of the package's methods."""
+    """L3, L15, L22, L23, L24, L25: calls; own are the names of the package's methods."""
     guarded = module_values(tree)
     good = set()
     for node in ast.walk(tree):
@@ -209,6 +233,12 @@ def call_faults(tree, own):
     for node in ast.walk(tree):
         if not isinstance(node, ast.Call):
             continue
+        if not isinstance(node.func, (ast.Name, ast.Attribute)):
+            yield "L3", node.lineno
+        words = {word.arg for word in node.keywords}
+        builtin = isinstance(node.func, ast.Name) and node.func.id in BUILTINS
+        if words and (isinstance(node.func, ast.Attribute) or builtin and words - KEYWORDS.get(node.func.id, set())):
+            yield "L22", node.lineno
         if isinstance(node.func, ast.Name):
             if node.func.id in FLEETING and id(node) not in good:
                 yield "L23", node.lineno
@@ -245,7 +275,7 @@ def faults_of(source, own=()):
     own are the names of methods that other files of the package have.
     """
     tree = ast.parse(source)
-    readers = (module_faults, function_faults, statement_faults, name_faults, loop_faults)
+    readers = (module_faults, function_faults, statement_faults, error_faults, name_faults, loop_faults)
     found = set(text_faults(source))
     for reader in readers:
         found.update(reader(tree))

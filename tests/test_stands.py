@@ -2,8 +2,9 @@
 
 import unittest
 
-from joinedever.stands import deeds_by, stand_at, stand_behind
-from samples import MOST, come, go, is_number, some_histories, stand_reckoned, stays_as_it_was
+from joinedever.spans import has_moment, is_spans
+from joinedever.stands import deeds_by, spans_where, stand_at, stand_behind, stretches_of
+from samples import MOST, come, go, is_number, moments_of, some_histories, stand_reckoned, stays_as_it_was
 
 CROWDED = (4, (
     come(3, "b", 0, 1, 7), come(3, "a", 2, 1, 5), go(3, "b"), come(5, "c", 3, 0, 0),
@@ -108,6 +109,34 @@ class At(unittest.TestCase):
             for moment in sorted(moments):
                 n = sum(deed[1] <= moment for deed in history[1])
                 self.assertEqual(stays_as_it_was(self, stand_at, history, moment), stand_reckoned(history, n))
+
+
+class Stretches(unittest.TestCase):
+    def test_by_hand(self):
+        self.assertEqual(stretches_of((1, ())), [(0, None, 0)])
+        self.assertEqual(stretches_of((2, (come(0, "a"), go(0, "a"), come(1, "b")))), [(0, 1, 2), (1, None, 3)])
+        self.assertEqual(stretches_of(CROWDED), [(0, 3, 0), (3, 5, 3), (5, 8, 5), (8, MOST, 8), (MOST, None, 9)])
+
+    def test_spans_where_something_is_so(self):
+        truths = [True, False, False, True, True, True, False, True, False, True]
+        self.assertEqual(spans_where(CROWDED, truths), ((0, 8), (MOST, None)))
+        self.assertEqual(spans_where(CROWDED, [not truth for truth in truths]), ((8, MOST),))
+        self.assertEqual(spans_where(CROWDED, [True] * 10), ((0, None),))
+        self.assertEqual(spans_where(CROWDED, [False] * 10), ())
+
+    def test_over_many(self):
+        for history in some_histories():
+            stretches = stays_as_it_was(self, stretches_of, history)
+            self.assertEqual([low for low, high, n in stretches[1:]], [high for low, high, n in stretches[:-1]])
+            self.assertEqual((stretches[0][0], stretches[-1][1]), (0, None))
+            for low, high, n in stretches:
+                self.assertTrue(high is None or low < high)
+                self.assertEqual((deeds_by(history, low), deeds_by(history, MOST if high is None else high - 1)), (n, n))
+            truths = [n % 3 == 0 for n in range(len(history[1]) + 1)]
+            spans = spans_where(history, truths)
+            self.assertIs(is_spans(spans), True)
+            for moment in moments_of(history):
+                self.assertIs(has_moment(spans, moment), truths[deeds_by(history, moment)])
 
 
 if __name__ == "__main__":
